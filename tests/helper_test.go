@@ -2,6 +2,8 @@ package tests
 
 import (
 	"fmt"
+	"math"
+	"slices"
 	"strings"
 
 	"loop.example/drydock/impl"
@@ -103,6 +105,166 @@ func okRepos() []impl.Repo {
 		list = append(list, thrownRepo(&d))
 	}
 	return list
+}
+
+// badRepos is packs that are not ok, each for one reason.
+func badRepos() []impl.Repo {
+	pack := func(p impl.Pack) impl.Repo { return impl.Repo{Packs: []impl.Pack{p}, Room: 9} }
+	return []impl.Repo{
+		{Packs: manyPacks(impl.RepoMax + 1), Room: 9},
+		{Packs: []impl.Pack{{Name: "b"}, {Name: "a"}}, Room: 9},
+		{Packs: []impl.Pack{{Name: "a", Ver: 2}, {Name: "a", Ver: 1}}, Room: 9},
+		{Packs: []impl.Pack{{Name: "a"}, {Name: "a"}}, Room: 9},
+		{Packs: manyPacks(2), Room: -1},
+		{Packs: manyPacks(2), Room: impl.RepoMaxSize + 1},
+		{Room: -1},
+		{Room: impl.RepoMaxSize + 1},
+		pack(impl.Pack{Name: ""}),
+		pack(impl.Pack{Name: "A"}),
+		pack(impl.Pack{Name: "aaaaaaa"}),
+		pack(impl.Pack{Name: "a", Ver: -1}),
+		pack(impl.Pack{Name: "a", Ver: impl.RepoMaxVer + 1}),
+		pack(impl.Pack{Name: "a", Size: -1}),
+		pack(impl.Pack{Name: "a", Size: impl.RepoMaxSize + 1}),
+		pack(impl.Pack{Name: "a", Deps: [][]impl.Req{{}}}),
+		pack(impl.Pack{Name: "a", Deps: [][]impl.Req{{req("a", 0, 0)}, {req("a", 0, 0)}, {req("a", 0, 0)}, {req("a", 0, 0)}, {req("a", 0, 0)}}}),
+		pack(impl.Pack{Name: "a", Deps: [][]impl.Req{{req("a", 1, 0)}}}),
+		pack(impl.Pack{Name: "a", Pres: manyReqs(5)}),
+		pack(impl.Pack{Name: "a", Bans: manyReqs(5)}),
+		pack(impl.Pack{Name: "a", Bans: []impl.Req{req("a", 0, 100)}}),
+	}
+}
+
+func fewReqs(d *dice, most int) []impl.Req {
+	var list []impl.Req
+	for range 1 + d.below(most) {
+		low := d.below(4)
+		list = append(list, req(d.one("a", "b", "c", "d", "e"), low, low+d.below(4-low)))
+	}
+	return list
+}
+
+// thrownDock is at most so many packs that ask for little: of their states many are healthy, and many are not.
+func thrownDock(d *dice, most int) impl.Repo {
+	r := impl.Repo{Room: d.below(13)}
+	for _, name := range []string{"a", "b", "c", "d"} {
+		for ver := 1; ver <= 3; ver++ {
+			if len(r.Packs) == most || d.below(2) == 0 {
+				continue
+			}
+			p := impl.Pack{Name: name, Ver: ver, Size: d.below(5)}
+			for range d.below(2) + d.below(2)*d.below(2) {
+				p.Deps = append(p.Deps, fewReqs(d, 3))
+			}
+			if d.below(3) == 0 {
+				p.Pres = fewReqs(d, 2)
+			}
+			if d.below(3) == 0 {
+				p.Bans = fewReqs(d, 2)
+			}
+			r.Packs = append(r.Packs, p)
+		}
+	}
+	return r
+}
+
+// docks is packs of which many are healthy together, and those at the document's edges.
+func docks() []impl.Repo {
+	list := okRepos()[:40]
+	free := impl.Repo{Room: 3}
+	for _, name := range []string{"a", "b", "c", "d", "e", "f", "g", "h"} {
+		free.Packs = append(free.Packs, impl.Pack{Name: name, Size: len(free.Packs) % 3})
+	}
+	list = append(list, free)
+	d := dice(3)
+	for i := range 300 {
+		list = append(list, thrownDock(&d, 1+i%impl.RepoMax))
+	}
+	return list
+}
+
+// setOf is the places whose bits are set.
+func setOf(bits int) []int {
+	var set []int
+	for i := 0; bits>>i > 0; i++ {
+		if bits>>i&1 == 1 {
+			set = append(set, i)
+		}
+	}
+	return set
+}
+
+// allSets is all sets of so many places, ascending by bits.
+func allSets(n int) [][]int {
+	var list [][]int
+	for bits := range 1 << n {
+		list = append(list, setOf(bits))
+	}
+	return list
+}
+
+// wrongSets is lists of places that are no state of so many packs.
+func wrongSets(n int) [][]int {
+	list := [][]int{{-1}, {n}, {math.MinInt}, {math.MaxInt}, {0, n}, {-1, 0}, {0, 0}, {1, 0}, {0, math.MaxInt}, make([]int, 100000)}
+	if n > 1 {
+		list = append(list, []int{n - 1, n}, []int{n - 1, n - 1}, []int{n - 1, 0}, []int{0, 1, 1}, []int{0, 1, 0}, []int{1, 1}, []int{0, -1}, []int{0, 1, n})
+	}
+	return list
+}
+
+// fitsOne says whether a pack fits one of some requests.
+func fitsOne(p impl.Pack, reqs []impl.Req) bool {
+	return slices.ContainsFunc(reqs, func(q impl.Req) bool {
+		return p.Name == q.Name && q.Low <= p.Ver && p.Ver <= q.High
+	})
+}
+
+// roomOf is the room of packs at places, counted by hand.
+func roomOf(r impl.Repo, set []int) int {
+	sum := 0
+	for _, i := range set {
+		sum += r.Packs[i].Size
+	}
+	return sum
+}
+
+// unserved says what is wrong with a state of packs that are ok, by the document's words; empty, if it is healthy.
+func unserved(r impl.Repo, set []int) string {
+	if roomOf(r, set) > r.Room {
+		return "room"
+	}
+	for _, i := range set {
+		p := r.Packs[i]
+		for _, j := range set {
+			if i != j && r.Packs[j].Name == p.Name {
+				return "twice"
+			}
+			if i != j && fitsOne(r.Packs[j], p.Bans) {
+				return "ban"
+			}
+		}
+		for _, row := range p.Deps {
+			if !slices.ContainsFunc(set, func(j int) bool { return fitsOne(r.Packs[j], row) }) {
+				return "dep"
+			}
+		}
+	}
+	return ""
+}
+
+// withRoom is the same packs with other room.
+func withRoom(r impl.Repo, room int) impl.Repo {
+	r.Room = room
+	return r
+}
+
+// nothingAsked is the same packs, asking for nothing.
+func nothingAsked(r impl.Repo) impl.Repo {
+	c := impl.Repo{Room: r.Room}
+	for _, p := range r.Packs {
+		c.Packs = append(c.Packs, impl.Pack{Name: p.Name, Ver: p.Ver, Size: p.Size})
+	}
+	return c
 }
 
 func copyReqs(list []impl.Req) []impl.Req {
