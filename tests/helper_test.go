@@ -168,6 +168,18 @@ func thrownDock(d *dice, most int) impl.Repo {
 	return r
 }
 
+// aheadDock is at most so many packs that ask for what is ahead of them, and for nothing with them: steps hang on little else.
+func aheadDock(d *dice, most int) impl.Repo {
+	r := nothingAsked(thrownDock(d, most))
+	r.Room += 4
+	for i := range r.Packs {
+		if d.below(2) == 0 {
+			r.Packs[i].Pres = fewReqs(d, 2)
+		}
+	}
+	return r
+}
+
 // docks is packs of which many are healthy together, and those at the document's edges.
 func docks() []impl.Repo {
 	list := okRepos()[:40]
@@ -179,6 +191,9 @@ func docks() []impl.Repo {
 	d := dice(3)
 	for i := range 300 {
 		list = append(list, thrownDock(&d, 1+i%impl.RepoMax))
+	}
+	for i := range 120 {
+		list = append(list, aheadDock(&d, 1+i%impl.RepoMax))
 	}
 	return list
 }
@@ -248,6 +263,71 @@ func unserved(r impl.Repo, set []int) string {
 				return "dep"
 			}
 		}
+	}
+	return ""
+}
+
+// everyStep is all steps that there might be, by the document's words.
+func everyStep(r impl.Repo) []impl.Step {
+	var list []impl.Step
+	for i := range r.Packs {
+		list = append(list, impl.Step{Kind: impl.StepPut, In: i})
+	}
+	for i := range r.Packs {
+		list = append(list, impl.Step{Kind: impl.StepTake, Out: i})
+	}
+	for out, p := range r.Packs {
+		for in, q := range r.Packs {
+			if in != out && p.Name == q.Name {
+				list = append(list, impl.Step{Kind: impl.StepSwap, In: in, Out: out})
+			}
+		}
+	}
+	return list
+}
+
+// keptBy is what a step leaves there of a state.
+func keptBy(set []int, s impl.Step) []int {
+	return slices.DeleteFunc(slices.Clone(set), func(i int) bool { return s.Kind != impl.StepPut && i == s.Out })
+}
+
+// behindOf is what would be there behind a step, allowed or not.
+func behindOf(set []int, s impl.Step) []int {
+	list := keptBy(set, s)
+	if s.Kind != impl.StepTake {
+		list = append(list, s.In)
+		slices.Sort(list)
+	}
+	return list
+}
+
+// refusal says why a step is not allowed from a state in form of packs that are ok, by the document's words; empty, if it is.
+func refusal(r impl.Repo, set []int, s impl.Step) string {
+	if unserved(r, set) != "" {
+		return "state"
+	}
+	if !slices.Contains(everyStep(r), s) {
+		return "step"
+	}
+	if s.Kind != impl.StepPut && !slices.Contains(set, s.Out) {
+		return "out"
+	}
+	if s.Kind != impl.StepTake {
+		if slices.Contains(set, s.In) {
+			return "in"
+		}
+		p := r.Packs[s.In]
+		for _, q := range p.Pres {
+			if !slices.ContainsFunc(keptBy(set, s), func(i int) bool { return fitsOne(r.Packs[i], []impl.Req{q}) }) {
+				return "pre"
+			}
+		}
+		if roomOf(r, set)+p.Size > r.Room {
+			return "room"
+		}
+	}
+	if unserved(r, behindOf(set, s)) != "" {
+		return "then"
 	}
 	return ""
 }
