@@ -170,18 +170,23 @@ type search struct {
 	ok   bool
 }
 
+// searchesIn is the searches between at most so many states of a dock, each with each.
+func searchesIn(c chart, n int) []search {
+	var list []search
+	for _, to := range some(c.states, n) {
+		for _, from := range some(c.states, n) {
+			plan, ok := impl.PlanFind(c.r, setOf(from), setOf(to))
+			list = append(list, search{c, from, to, plan, ok})
+		}
+	}
+	return list
+}
+
 // searches is the searches between many states of all docks, made once for all tests: a list for each of charts.
 var searches = sync.OnceValue(func() [][]search {
 	var all [][]search
 	for _, c := range charts() {
-		var list []search
-		for _, to := range some(c.states, 16) {
-			for _, from := range some(c.states, 16) {
-				plan, ok := impl.PlanFind(c.r, setOf(from), setOf(to))
-				list = append(list, search{c, from, to, plan, ok})
-			}
-		}
-		all = append(all, list)
+		all = append(all, searchesIn(c, 16))
 	}
 	return all
 })

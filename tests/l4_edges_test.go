@@ -255,10 +255,10 @@ func TestOrderOfPlanReach(t *testing.T) {
 	checkReach(t, dockOf(t, "room 1\npack a 1 1\npack b 1 0\npack c 1 1\n"), []int{1, 2}, nil, []int{0}, []int{1}, []int{0, 1}, []int{2}, []int{1, 2})
 }
 
-func TestPlansOfWrongStates(t *testing.T) {
+// eachWrongState goes over states of all docks that are not in form, and over some that are not healthy, each with a healthy one.
+func eachWrongState(do func(c chart, ok, set []int)) {
 	asked := 0
 	for _, c := range charts() {
-		ok := setOf(c.states[len(c.states)-1])
 		wrong := wrongSets(len(c.r.Packs))
 		for _, set := range allSets(len(c.r.Packs)) {
 			if unserved(c.r, set) != "" && asked%3 == 0 {
@@ -267,21 +267,27 @@ func TestPlansOfWrongStates(t *testing.T) {
 			asked++
 		}
 		for _, set := range wrong {
-			checkReach(t, c.r, set)
-			checkNone(t, c.r, set, nil)
-			checkNone(t, c.r, set, ok)
-			checkNone(t, c.r, nil, set)
-			checkNone(t, c.r, ok, set)
-			checkNone(t, c.r, set, set)
-			checkDo(t, c.r, set, nil, nil, false)
-			for _, s := range c.steps {
-				checkDo(t, c.r, set, []impl.Step{s}, nil, false)
-			}
-			if impl.PlanOk(c.r, set, set, nil) || impl.PlanOk(c.r, set, nil, nil) || impl.PlanOk(c.r, nil, set, nil) || impl.PlanOk(c.r, ok, set, nil) || t.Failed() {
-				t.Fatalf("%v: no step leads from or to %v", c.r, brief(set))
-			}
+			do(c, setOf(c.states[len(c.states)-1]), set)
 		}
 	}
+}
+
+func TestPlansOfWrongStates(t *testing.T) {
+	eachWrongState(func(c chart, ok, set []int) {
+		checkReach(t, c.r, set)
+		checkNone(t, c.r, set, nil)
+		checkNone(t, c.r, set, ok)
+		checkNone(t, c.r, nil, set)
+		checkNone(t, c.r, ok, set)
+		checkNone(t, c.r, set, set)
+		checkDo(t, c.r, set, nil, nil, false)
+		for _, s := range c.steps {
+			checkDo(t, c.r, set, []impl.Step{s}, nil, false)
+		}
+		if impl.PlanOk(c.r, set, set, nil) || impl.PlanOk(c.r, set, nil, nil) || impl.PlanOk(c.r, nil, set, nil) || impl.PlanOk(c.r, ok, set, nil) || t.Failed() {
+			t.Fatalf("%v: no step leads from or to %v", c.r, brief(set))
+		}
+	})
 	// Also where a step leads to what is not healthy, or from there to what is.
 	r := dockOf(t, "room 2\npack a 1 2\npack b 1 1\ndep c 1 1\npack c 1 0\n")
 	checkNone(t, r, []int{0, 1, 2}, []int{1, 2})
