@@ -128,11 +128,11 @@ func (c chart) thrownWalk(d *dice, bits int, n int) []impl.Step {
 }
 
 // some is at most so many of a list, spread over it, its first and its last among them.
-func some(list []int, n int) []int {
+func some[T any](list []T, n int) []T {
 	if len(list) <= n {
 		return slices.Clone(list)
 	}
-	var few []int
+	var few []T
 	for i := range n {
 		few = append(few, list[i*(len(list)-1)/(n-1)])
 	}
