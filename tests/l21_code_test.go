@@ -49,11 +49,11 @@ func TestPromise85ModelsAreJustPlans(t *testing.T) {
 			}
 			plans = slices.Delete(plans, place, place+1)
 		}
-		if f.code == impl.SatNo && len(plans) > 0 {
-			t.Fatalf("%v: no models are %v", k, plans)
+		if f.code != impl.SatNo || !impl.SatProof(f.c, f.proof) {
+			t.Fatalf("%v: that there are no more is not refuted, answer %d", k, f.code)
 		}
-		if f.code == impl.SatNo && !impl.SatProof(f.c, f.proof) {
-			t.Fatalf("%v: not refuted", k)
+		if len(plans) > 0 {
+			t.Fatalf("%v: no models are %v", k, plans)
 		}
 	}
 	if all < 1500 {
